@@ -1,0 +1,1 @@
+"""Roundcall: one caller, many listeners, and a road that loses calls."""

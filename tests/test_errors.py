@@ -1,0 +1,87 @@
+"""Point 3 and the interface of roundcall.errors."""
+
+import inspect
+import unittest
+
+from roundcall import errors
+from roundcall.halls import after, beginning, broken_ones, hall_of, standings
+from roundcall.rounds import walked
+
+REFUSALS = [
+    "NoHall", "NoListener", "NoLoss", "TooMany", "NoWheel", "NoChain",
+    "TooMuch", "NoPart", "Unsafe", "NoRow", "NoStand",
+]
+
+
+class ErrorClasses(unittest.TestCase):
+    def test_round_error_stands_straight_under_value_error(self):
+        self.assertEqual(errors.RoundError.__bases__, (ValueError,))
+
+    def test_every_refusal_stands_straight_under_round_error(self):
+        for name in REFUSALS:
+            with self.subTest(name=name):
+                self.assertEqual(getattr(errors, name).__bases__, (errors.RoundError,))
+
+    def test_no_refusal_stands_under_another_one(self):
+        for one in REFUSALS:
+            for other in REFUSALS:
+                if one != other:
+                    with self.subTest(one=one, other=other):
+                        self.assertFalse(issubclass(getattr(errors, one), getattr(errors, other)))
+
+    def test_the_classes_are_those_of_the_document(self):
+        told = [name for name, value in vars(errors).items() if inspect.isclass(value)]
+        self.assertEqual(sorted(told), sorted(REFUSALS + ["RoundError"]))
+
+    def test_each_is_raised_and_taken_as_a_round_error(self):
+        for name in REFUSALS:
+            with self.subTest(name=name):
+                with self.assertRaises(errors.RoundError):
+                    raise getattr(errors, name)("words")
+
+
+class RefusalsChangeNothing(unittest.TestCase):
+    def test_refused_waits_stay_as_they_were(self):
+        for waits in [[], [2, 0, 3], [1] * 9]:
+            was = list(waits)
+            with self.assertRaises(errors.NoHall):
+                hall_of(waits)
+            self.assertEqual(waits, was)
+
+    def test_waits_refused_for_their_calm_are_taken_with_another(self):
+        waits = [2, 3]
+        with self.assertRaises(errors.NoHall):
+            hall_of(waits, 0)
+        self.assertEqual(hall_of(waits, 1), ((2, 3), 1))
+
+    def test_a_refused_turn_leaves_the_answers_as_they_were(self):
+        hall = hall_of([3, 2], 2)
+        standing = ((2, 1), 1)
+        before = (after(hall, standing, 1), broken_ones(hall, standing, 0))
+        for ask in (after, broken_ones):
+            with self.assertRaises(errors.NoListener):
+                ask(hall, standing, 2)
+            with self.assertRaises(errors.NoLoss):
+                ask(hall, standing, 1, True)
+        self.assertEqual((after(hall, standing, 1), broken_ones(hall, standing, 0)), before)
+        self.assertEqual((hall, standing), (((3, 2), 2), ((2, 1), 1)))
+
+    def test_refused_standings_leave_other_halls_as_they_were(self):
+        small = hall_of([2, 1], 1)
+        before = standings(small)
+        with self.assertRaises(errors.TooMany):
+            standings(hall_of([3001]))
+        self.assertEqual(standings(small), before)
+
+    def test_a_refused_walk_leaves_its_lists_as_they_were(self):
+        hall = hall_of([4, 4])
+        calls = [0, 1, 2]
+        losses = [False, False, False]
+        with self.assertRaises(errors.NoListener):
+            walked(hall, beginning(hall), calls, losses)
+        self.assertEqual(calls, [0, 1, 2])
+        self.assertEqual(losses, [False, False, False])
+
+
+if __name__ == "__main__":
+    unittest.main()
