@@ -27,9 +27,13 @@ def may_lose(hall, standing):
     return hall[1] is not None and standing[1] == 0
 
 
-def refuse_wrong_turn(hall, standing, who, lost):
+def is_listener(hall, who):
     # Asked by hand, since an index of -1 would quietly mean the last listener.
-    if who < 0 or who >= len(hall[0]):
+    return who >= 0 and who < len(hall[0])
+
+
+def refuse_wrong_turn(hall, standing, who, lost):
+    if not is_listener(hall, who):
         raise NoListener("no listener has this number")
     if lost and not may_lose(hall, standing):
         raise NoLoss("the road may lose nothing here")
@@ -54,6 +58,13 @@ def after(hall, standing, who, lost=False):
     if 0 in left:
         return None
     return (tuple(left), quiet_behind(hall, standing, lost))
+
+
+def all_behind(hall, standing, who):
+    behind = [after(hall, standing, who)]
+    if may_lose(hall, standing):
+        behind.append(after(hall, standing, who, True))
+    return behind
 
 
 def broken_ones(hall, standing, who, lost=False):

@@ -5,7 +5,9 @@ import unittest
 
 from roundcall import errors
 from roundcall.halls import after, beginning, broken_ones, hall_of, standings
+from roundcall.papers import broken_paper, kept_paper
 from roundcall.rounds import walked
+from roundcall.settle import ranks, worst_answer
 
 REFUSALS = [
     "NoHall", "NoListener", "NoLoss", "TooMany", "NoWheel", "NoChain",
@@ -72,6 +74,21 @@ class RefusalsChangeNothing(unittest.TestCase):
         with self.assertRaises(errors.TooMany):
             standings(hall_of([3001]))
         self.assertEqual(standings(small), before)
+
+    def test_refused_ranks_and_papers_leave_other_halls_as_they_were(self):
+        small = hall_of([3, 3], 1)
+        before = (ranks(small), kept_paper(small), broken_paper(small))
+        for ask in (ranks, kept_paper, broken_paper):
+            with self.assertRaises(errors.TooMany):
+                ask(hall_of([3001]))
+        self.assertEqual((ranks(small), kept_paper(small), broken_paper(small)), before)
+
+    def test_a_refused_answer_leaves_the_table_as_it_was(self):
+        hall = hall_of([3, 3], 1)
+        table = ranks(hall)
+        with self.assertRaises(errors.NoListener):
+            worst_answer(hall, table, beginning(hall), 2)
+        self.assertEqual(table, ranks(hall))
 
     def test_a_refused_walk_leaves_its_lists_as_they_were(self):
         hall = hall_of([4, 4])
