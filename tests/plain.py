@@ -1,5 +1,6 @@
 """The document's words reckoned once more, plainly and slowly, without the package's own code."""
 
+import fractions
 import itertools
 
 GREAT = 10 ** 100 - 1
@@ -92,3 +93,27 @@ def come_to(hall, turns):
         if behind - {None} <= found:
             return found
         found |= behind - {None}
+
+
+def plain_heard(wheel, turn):
+    """All listeners that a list of (period, first) calls in the turn, found by walking from each first on."""
+    return [who for who, (period, first) in enumerate(wheel) if turn in range(first, turn + 1, period)]
+
+
+def plain_doublings(waits, base):
+    told = []
+    for wait in waits:
+        number = base
+        while 2 * number <= wait:
+            number = 2 * number
+        told.append(number)
+    return told
+
+
+def plain_shares(numbers):
+    return sum((fractions.Fraction(1, number) for number in numbers), fractions.Fraction(0))
+
+
+def plain_best_base(waits):
+    fitting = [base for base in range(1, min(waits) + 1) if plain_shares(plain_doublings(waits, base)) <= 1]
+    return max(fitting, default=None)

@@ -4,10 +4,13 @@ import inspect
 import unittest
 
 from roundcall import errors
+from roundcall.chains import best_base, chain_wheel, doubled, wheel_for
 from roundcall.halls import after, beginning, broken_ones, hall_of, standings
+from roundcall.nests import Many, One, grouped
 from roundcall.papers import broken_paper, kept_paper
 from roundcall.rounds import walked
 from roundcall.settle import ranks, worst_answer
+from roundcall.wheels import called_times, next_turn, wheel_of
 
 REFUSALS = [
     "NoHall", "NoListener", "NoLoss", "TooMany", "NoWheel", "NoChain",
@@ -40,6 +43,30 @@ class ErrorClasses(unittest.TestCase):
             with self.subTest(name=name):
                 with self.assertRaises(errors.RoundError):
                     raise getattr(errors, name)("words")
+
+
+class RefusalsOfWheels(unittest.TestCase):
+    def test_each_is_of_just_the_class_that_is_named(self):
+        for refusal, ask, handed in [
+            (errors.NoWheel, wheel_of, ([(2, 2)],)),
+            (errors.NoWheel, wheel_of, ([(2, 0), (3, 0)],)),
+            (errors.NoListener, next_turn, ([(2, 0)], 1, 0)),
+            (errors.NoListener, called_times, ([(2, 0)], -1, 0, 9)),
+            (errors.NoWheel, chain_wheel, ([0],)),
+            (errors.NoChain, chain_wheel, ([2, 3],)),
+            (errors.TooMuch, chain_wheel, ([1, 2],)),
+            (errors.NoWheel, doubled, ([2], 3)),
+            (errors.NoWheel, best_base, ([],)),
+            (errors.NoWheel, wheel_for, ([0],)),
+            (errors.NoPart, Many, ([(1, 0)], [])),
+            (errors.NoPart, Many, ([(2, 0), (2, 1)], [One("a"), One("a")])),
+            (errors.NoWheel, grouped, ([],)),
+            (errors.NoPart, grouped, ([(3, [("a", 9), ("a", 9)])],)),
+        ]:
+            with self.subTest(ask=ask, handed=handed):
+                with self.assertRaises(errors.RoundError) as caught:
+                    ask(*handed)
+                self.assertIs(type(caught.exception), refusal)
 
 
 class RefusalsChangeNothing(unittest.TestCase):

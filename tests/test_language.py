@@ -31,6 +31,10 @@ WORDS = re.compile(
     r"|namedtuple|NamedTuple|TypedDict|TYPE_CHECKING|abstractmethod)\b|dataclass|overload|contextmanager"
 )
 METHODS = set("__init__ __eq__ __repr__ __str__ __len__".split())
+# Values of an object may bear these names, though Python's own values have them as methods.
+SHARED_VALUES = set("count index title find get join lower upper split strip copy add".split())
+WALKED = ("zip", "enumerate", "reversed", "range")
+WALKERS = ("list", "tuple", "dict", "sorted", "sum", "any", "all", "enumerate", "zip", "min", "max")
 
 
 def trees():
@@ -61,6 +65,20 @@ def defined_at_top(tree):
         elif isinstance(node, (ast.FunctionDef, ast.ClassDef)):
             names.append(node.name)
     return names
+
+
+def own_methods():
+    bodies = [part for name, node in nodes(ast.ClassDef) for part in node.body]
+    return {part.name for part in bodies if isinstance(part, ast.FunctionDef)}
+
+
+def is_call_of(node, names):
+    return isinstance(node, ast.Call) and isinstance(node.func, ast.Name) and node.func.id in names
+
+
+def around(tree):
+    """Each node of the tree with the node that it stands in."""
+    return [(child, node) for node in ast.walk(tree) for child in ast.iter_child_nodes(node)]
 
 
 class Files(unittest.TestCase):
@@ -141,6 +159,28 @@ class Forms(unittest.TestCase):
                         self.assertIn(getattr(value, "value", 0), (None, True, False))
                         self.assertIsInstance(value, ast.Constant)
 
+    def test_no_number_of_unknown_size_is_an_exponent(self):
+        for name, node in nodes(ast.BinOp):
+            if isinstance(node.op, ast.Pow):
+                with self.subTest(file=name, line=node.lineno):
+                    self.assertIn(getattr(node.right, "value", None), range(65))
+
+    def test_what_is_walked_is_walked_on_the_spot(self):
+        for path, tree in trees().items():
+            for node, outer in around(tree):
+                if is_call_of(node, WALKED):
+                    with self.subTest(path=path.name, line=node.lineno):
+                        behind_in = isinstance(outer, (ast.For, ast.comprehension)) and outer.iter is node
+                        self.assertTrue(behind_in or is_call_of(outer, WALKERS))
+
+    def test_sets_are_neither_kept_nor_walked(self):
+        for path, tree in trees().items():
+            for node, outer in around(tree):
+                if is_call_of(node, ("set", "frozenset")) or isinstance(node, ast.Set):
+                    with self.subTest(path=path.name, line=node.lineno):
+                        plain = is_call_of(outer, ("sorted", "len")) and not outer.keywords
+                        self.assertTrue(plain or isinstance(outer, (ast.Compare, ast.BinOp)))
+
 
 class Names(unittest.TestCase):
     def test_names_are_plain_and_no_name_of_python_is_given_another_meaning(self):
@@ -152,8 +192,6 @@ class Names(unittest.TestCase):
                         self.assertNotIn(bound, dir(builtins))
 
     def test_only_the_listed_names_and_methods_of_python(self):
-        bodies = [part for name, node in nodes(ast.ClassDef) for part in node.body]
-        methods = [part.name for part in bodies if isinstance(part, ast.FunctionDef)]
         for name, node in nodes(ast.Name):
             if node.id in dir(builtins):
                 with self.subTest(file=name, line=node.lineno):
@@ -161,7 +199,15 @@ class Names(unittest.TestCase):
         for name, node in nodes(ast.Call):
             if isinstance(node.func, ast.Attribute):
                 with self.subTest(file=name, line=node.lineno):
-                    self.assertIn(node.func.attr, OWN_METHODS | set(methods))
+                    self.assertIn(node.func.attr, OWN_METHODS | own_methods())
+
+    def test_values_of_objects(self):
+        taken = {name for kind in (str, int, list, tuple, dict, set, bytes) for name in dir(kind)} - SHARED_VALUES
+        for path, tree in trees().items():
+            for node, outer in around(tree):
+                if isinstance(node, ast.Attribute) and getattr(outer, "func", None) is not node:
+                    with self.subTest(path=path.name, line=node.lineno):
+                        self.assertFalse(node.attr in taken | own_methods(), node.attr)
 
     def test_no_local_is_called_like_a_class_or_an_import_of_its_file(self):
         for path, tree in trees().items():
