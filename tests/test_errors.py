@@ -5,9 +5,12 @@ import unittest
 
 from roundcall import errors
 from roundcall.chains import best_base, chain_wheel, doubled, wheel_for
+from roundcall.desk import Desk
 from roundcall.halls import after, beginning, broken_ones, hall_of, standings
+from roundcall.joins import joined, left_out, may_join, way_in
 from roundcall.nests import Many, One, grouped
 from roundcall.papers import broken_paper, kept_paper
+from roundcall.plays import paper_round
 from roundcall.rounds import walked
 from roundcall.settle import ranks, worst_answer
 from roundcall.wheels import called_times, next_turn, wheel_of
@@ -67,6 +70,43 @@ class RefusalsOfWheels(unittest.TestCase):
                 with self.assertRaises(errors.RoundError) as caught:
                     ask(*handed)
                 self.assertIs(type(caught.exception), refusal)
+
+
+class RefusalsOfComingAndGoing(unittest.TestCase):
+    def test_each_is_of_just_the_class_that_is_named(self):
+        hall, calm_hall, unsafe = ((3, 3), None), ((3, 3), 2), ((1, 1), 0)
+        for refusal, ask, handed in [
+            (errors.TooMany, paper_round, (((3001,), None),)),
+            (errors.NoHall, joined, (hall, unsafe, 0)),
+            (errors.NoListener, left_out, (hall, unsafe, 2)),
+            (errors.NoHall, left_out, (((3,), None), ((3,), 0), 0)),
+            (errors.NoHall, may_join, (hall, unsafe, 0)),
+            (errors.TooMany, may_join, (hall, unsafe, 3000)),
+            (errors.NoHall, way_in, (calm_hall, unsafe, 3)),
+            (errors.TooMany, way_in, (hall, unsafe, 3000)),
+            (errors.Unsafe, way_in, (hall, unsafe, 3)),
+        ]:
+            with self.subTest(ask=ask, handed=handed):
+                with self.assertRaises(errors.RoundError) as caught:
+                    ask(*handed)
+                self.assertIs(type(caught.exception), refusal)
+
+    def test_at_a_desk_too(self):
+        desk = Desk()
+        for row, refusal in [
+            ("call", errors.NoRow), (None, errors.NoRow), ("call 0", errors.NoStand), ("turn 0", errors.NoStand),
+            ("hall 0", errors.NoHall), ("hall 3001", errors.TooMany), ("wheel 0", errors.NoWheel), ("hall 2 2", None),
+            ("call 2", errors.NoListener), ("lost 0", errors.NoLoss), ("join 2", errors.Unsafe),
+            ("join 0", errors.NoHall), ("join 3000", errors.TooMany), ("leave 2", errors.NoListener),
+            ("answer 2", errors.NoListener), ("leave 0", None), ("leave 0", errors.NoHall),
+        ]:
+            with self.subTest(row=row):
+                if refusal is None:
+                    desk.told(row)
+                else:
+                    with self.assertRaises(errors.RoundError) as caught:
+                        desk.told(row)
+                    self.assertIs(type(caught.exception), refusal)
 
 
 class RefusalsChangeNothing(unittest.TestCase):
